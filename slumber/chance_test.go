@@ -189,7 +189,19 @@ func (a *author) jumpNot() {
 	a.add(in(api.JumpNot, 0), 1, "")
 }
 
-// TestAgainstTheModel holds machines of programs by chance against the model, step by step; and P7, a machine that makes all its steps in one Run against it at the end.
+// draws by chance: often none, and of every size.
+func (a *author) draws() []int {
+	l := make([]int, max(0, a.IntN(30)-10))
+	for i := range l {
+		l[i] = a.IntN(9) - 4
+		if a.IntN(8) == 0 {
+			l[i] = int(a.Uint64())
+		}
+	}
+	return l
+}
+
+// TestAgainstTheModel holds machines of programs by chance, with draws by chance, against the model, step by step; and P7, a machine that makes all its steps in one Run against it at the end.
 func TestAgainstTheModel(t *testing.T) {
 	states := map[int]int{}
 	swept := 0
@@ -201,6 +213,10 @@ func TestAgainstTheModel(t *testing.T) {
 		}
 		capacity := 1 + a.IntN(8)
 		like, m, whole := newModel(p, capacity), begun(t, p, capacity), begun(t, p, capacity)
+		l := a.draws()
+		like.draw(l)
+		draw(t, m, l...)
+		draw(t, whole, l...)
 		steps := 0
 		for ; steps < 300 && like.state == api.Running; steps++ {
 			taken := m.Status().Objects
@@ -227,5 +243,41 @@ func TestAgainstTheModel(t *testing.T) {
 	}
 	if swept == 0 {
 		t.Error("no room was ever made: it has not been tested")
+	}
+}
+
+// TestDrawsAndCollectAgainstTheModel: between the steps draws are handed in, and it is tidied up.
+func TestDrawsAndCollectAgainstTheModel(t *testing.T) {
+	freed, refused := 0, 0
+	for seed := range uint64(600) {
+		a := &author{Rand: rand.New(rand.NewPCG(seed, 10))}
+		p, capacity := a.program(), 1+a.IntN(8)
+		like, m := newModel(p, capacity), begun(t, p, capacity)
+		for call := range 200 {
+			switch {
+			case a.IntN(6) == 0:
+				n := like.free(like.alive())
+				freed += n
+				wantCollect(t, m, n)
+			case a.IntN(5) == 0:
+				l := a.draws()
+				if like.draw(l) {
+					draw(t, m, l...)
+				} else {
+					refused++
+					wantTooLong(t, m, l)
+				}
+			case like.state == api.Running:
+				like.step()
+				wantRun(t, m, 1, 1)
+			}
+			if a, b := toldMachine(m), like.told(); a != b {
+				t.Fatalf("P8 to P10: seed %d, call %d: the machine is %s, want %s", seed, call, a, b)
+			}
+		}
+	}
+	t.Logf("%d objects freed by Collect, draws refused %d times", freed, refused)
+	if freed == 0 || refused == 0 {
+		t.Error("Collect never freed, or Draw never refused: it has not been tested")
 	}
 }

@@ -6,9 +6,10 @@ import (
 	"slumber/api"
 )
 
-// heap is as many slots as the capacity says; one without an object is Free.
+// heap is as many slots as the capacity says; one without an object is Free. The draws say where new objects are to lie, if there it is free.
 type heap struct {
 	slots []api.Object
+	draws []int
 }
 
 func newHeap(capacity int) heap { return heap{slots: make([]api.Object, capacity)} }
@@ -37,12 +38,36 @@ func (h *heap) full() bool { return h.taken() == len(h.slots) }
 
 func isFree(o api.Object) bool { return o.Kind == api.Free }
 
+// addDraws keeps a copy: the list is the caller's.
+func (h *heap) addDraws(l []int) api.Errno {
+	if len(h.draws)+len(l) > api.MaxDraws {
+		return api.ErrLong
+	}
+	h.draws = append(h.draws, l...)
+	return api.OK
+}
+
 // lay lays an object into a slot, and tells which. There must be a free one.
 func (h *heap) lay(o api.Object) int {
-	slot := slices.IndexFunc(h.slots, isFree)
+	slot := h.choose()
 	h.slots[slot] = o
 	return slot
 }
+
+// choose takes a draw away even where the slot that it says is not free.
+func (h *heap) choose() int {
+	if len(h.draws) > 0 {
+		slot := rest(h.draws[0], len(h.slots))
+		h.draws = slices.Delete(h.draws, 0, 1)
+		if isFree(h.slots[slot]) {
+			return slot
+		}
+	}
+	return slices.IndexFunc(h.slots, isFree)
+}
+
+// rest is d modulo n, from 0 on: what % tells has the sign of d.
+func rest(d, n int) int { return (d%n + n) % n }
 
 // reached are the slots of all objects that the values lead to, in the order in which they are met: first through the values, then object by object.
 func (h *heap) reached(values []api.Value) []int {
@@ -65,14 +90,16 @@ func (h *heap) reached(values []api.Value) []int {
 	return met
 }
 
-// sweep frees all that is not alive.
-func (h *heap) sweep(alive []int) {
+// sweep frees all that is not alive, and tells how many objects that were.
+func (h *heap) sweep(alive []int) int {
+	before := h.taken()
 	for slot := range h.slots {
 		if !slices.Contains(alive, slot) {
 			h.slots[slot] = api.Object{}
 		}
 	}
 	h.forgetFreed()
+	return before - h.taken()
 }
 
 // forgetFreed lets no weak object refer to a slot that has been freed: another object may come to lie there.

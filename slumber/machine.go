@@ -48,3 +48,6 @@ func (m *Machine) step() {
 
 // alive tells the slots of the objects that are alive, in the order in which they are met.
 func (m *Machine) alive() []int { return m.reached(m.values()) }
+
+// collect frees what is not alive; no program sees when.
+func (m *Machine) collect() int { return m.sweep(m.alive()) }

@@ -2,6 +2,7 @@ package slumber_test
 
 import (
 	"fmt"
+	"math/big"
 	"slices"
 	"strings"
 
@@ -15,6 +16,7 @@ type model struct {
 	output  []int
 	frames  []*modelFrame
 	slots   []*modelObject
+	draws   []int
 }
 
 type modelFrame struct {
@@ -57,7 +59,7 @@ func (m *model) copied() *model {
 		}
 		return out
 	}
-	c := &model{program: m.program, state: m.state, output: slices.Clone(m.output), slots: make([]*modelObject, len(m.slots))}
+	c := &model{program: m.program, state: m.state, output: slices.Clone(m.output), slots: make([]*modelObject, len(m.slots)), draws: slices.Clone(m.draws)}
 	for i, o := range m.slots {
 		if o != nil {
 			c.slots[i] = twin[o]
@@ -295,18 +297,47 @@ func (m *model) make(f *modelFrame, o *modelObject, ahead map[*modelObject]bool)
 	if !slices.Contains(m.slots, nil) {
 		m.free(ahead)
 	}
-	m.slots[slices.Index(m.slots, nil)] = o
+	m.slots[m.slotFor()] = o
 	f.push(o)
 }
 
-func (m *model) free(alive map[*modelObject]bool) {
+// slotFor takes the first draw away, if there is one; the rest of a division is math/big's.
+func (m *model) slotFor() int {
+	least := slices.Index(m.slots, nil)
+	if len(m.draws) == 0 {
+		return least
+	}
+	size := big.NewInt(int64(len(m.slots)))
+	slot := new(big.Int).Mod(big.NewInt(int64(m.draws[0])), size).Int64()
+	m.draws = m.draws[1:]
+	if m.slots[slot] != nil {
+		return least
+	}
+	return int(slot)
+}
+
+// draw tells whether there was room for the draws.
+func (m *model) draw(l []int) bool {
+	all := slices.Concat(m.draws, l)
+	if len(all) > api.MaxDraws {
+		return false
+	}
+	m.draws = all
+	return true
+}
+
+// free tells how many objects it freed.
+func (m *model) free(alive map[*modelObject]bool) int {
+	freed := 0
 	for i, o := range m.slots {
-		if !alive[o] {
+		if o != nil && !alive[o] {
 			m.slots[i] = nil
-		} else if o.kind == api.WeakObject && o.values[0] != nil && !alive[o.values[0].(*modelObject)] {
+			freed++
+		} else if o != nil && o.kind == api.WeakObject && o.values[0] != nil && !alive[o.values[0].(*modelObject)] {
 			o.values[0] = nil
 		}
 	}
+	return freed
 }
 
 func (m *model) reach(v any, kind int, n any) bool {
@@ -361,5 +392,5 @@ func (m *model) told() string {
 	for _, f := range m.frames {
 		frames = append(frames, fmt.Sprintf("%d@%d[%s|%s]", f.function, f.pc, all(f.locals), all(f.stack)))
 	}
-	return fmt.Sprintf("%v; %v; %s; %s", api.Status{State: m.state, Objects: taken}, m.output, strings.Join(frames, " "), strings.Join(slots, " "))
+	return fmt.Sprintf("%v; %v; %s; %s", api.Status{State: m.state, Objects: taken, Draws: len(m.draws)}, m.output, strings.Join(frames, " "), strings.Join(slots, " "))
 }

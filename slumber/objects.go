@@ -6,10 +6,10 @@ import (
 	"slumber/api"
 )
 
-// answerNew ends an operation that makes an object. What it pops leaves the stack only when there is a slot: it counts for what is alive.
+// answerNew ends an operation that makes an object. What it pops leaves the stack only when there is a slot: it counts for what is alive. Nor is a draw taken ahead of that.
 func (m *Machine) answerNew(pops []api.Value, kind uint8, fields []api.Value) int {
 	if m.full() {
-		m.sweep(m.alive())
+		m.collect()
 	}
 	if m.full() {
 		return api.HeapFull

@@ -298,17 +298,24 @@ func TestTraps(t *testing.T) {
 // wantTrap: the last of so many steps traps.
 func wantTrap(t *testing.T, p api.Program, capacity, steps, state int) {
 	t.Helper()
-	m := behind(t, p, capacity, steps-1)
-	before := m.Status()
-	all := toldMachine(m)
+	wantTrapNext(t, behind(t, p, capacity, steps-1), state)
+	if t.Failed() {
+		t.Fatalf("step %d of %v", steps, p)
+	}
+}
+
+// wantTrapNext: the next step traps, and all but the state is as it was.
+func wantTrapNext(t *testing.T, m *slumber.Machine, state int) {
+	t.Helper()
+	before, all := m.Status(), toldMachine(m)
 	wantRun(t, m, api.MaxFuel, 1)
 	s := m.Status()
 	if before.State != api.Running || s.State != state {
-		t.Errorf("P5: %v: step %d: the state was %d, is %d, want 0, %d", p, steps, before.State, s.State, state)
+		t.Errorf("P5: the state was %d, is %d, want 0, %d", before.State, s.State, state)
 	}
 	s.State = api.Running
 	if rest := strings.Replace(toldMachine(m), "{"+string(rune('0'+state)), "{0", 1); rest != all || s != before {
-		t.Errorf("P5: %v: a trap has changed %s into %s", p, all, rest)
+		t.Errorf("P5: a trap has changed %s into %s", all, rest)
 	}
 }
 

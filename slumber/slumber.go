@@ -26,7 +26,9 @@ func New(p api.Program, capacity int) (*Machine, api.Errno) { return begin(p, ca
 func (m *Machine) Run(fuel int) (int, api.Errno) { return m.run(fuel) }
 
 // Status tells the state (P6).
-func (m *Machine) Status() api.Status { return api.Status{State: m.state, Objects: m.taken()} }
+func (m *Machine) Status() api.Status {
+	return api.Status{State: m.state, Objects: m.taken(), Draws: len(m.draws)}
+}
 
 // Output tells what has been put out (P6).
 func (m *Machine) Output() []int { return slices.Clone(m.output) }
@@ -38,10 +40,10 @@ func (m *Machine) Frames() []api.Frame { return m.copyFrames() }
 func (m *Machine) Heap() []api.Object { return m.copySlots() }
 
 // Draw hands in draws (P9).
-func (m *Machine) Draw(l []int) api.Errno { return api.OK }
+func (m *Machine) Draw(l []int) api.Errno { return m.addDraws(l) }
 
 // Collect frees what is not alive (P10).
-func (m *Machine) Collect() int { return 0 }
+func (m *Machine) Collect() int { return m.collect() }
 
 // Save tells the machine as bytes (P13).
 func (m *Machine) Save() []byte { return nil }

@@ -148,13 +148,20 @@ func wantFrames(t *testing.T, m *slumber.Machine, want string) {
 	}
 }
 
+// wantHeap: of a machine that has no draws.
 func wantHeap(t *testing.T, m *slumber.Machine, want string) {
+	t.Helper()
+	wantLaid(t, m, want, 0)
+}
+
+// wantLaid: what lies where, and how many draws are left.
+func wantLaid(t *testing.T, m *slumber.Machine, want string, draws int) {
 	t.Helper()
 	if s := toldHeap(m.Heap()); s != want {
 		t.Errorf("P6, P8: the heap is %s, want %s", s, want)
 	}
 	taken := len(m.Heap()) - strings.Count(want, "-")
-	if s := m.Status(); s.Objects != taken || s.Draws != 0 {
-		t.Errorf("P6: Status = %+v, want %d objects, no draws", s, taken)
+	if s := m.Status(); s.Objects != taken || s.Draws != draws {
+		t.Errorf("P6: Status = %+v, want %d objects, %d draws", s, taken, draws)
 	}
 }
