@@ -10,50 +10,53 @@ import (
 	"slumber/slumber"
 )
 
-// fitsByStates tells whether a function fits together by the set of all instructions with heights that there can be: another road than a walk that notes one height for each.
 func fitsByStates(p api.Program, f api.Func) bool {
+	_, ok := heightsByStates(p, f)
+	return ok
+}
+
+// heightsByStates tells the heights of the instructions that are come to, and whether the function fits together, by the set of all instructions with heights that there can be: another road than a walk that notes one height for each.
+func heightsByStates(p api.Program, f api.Func) (map[int]int, bool) {
 	type state struct{ pc, height int }
 	seen := map[state]bool{{0, 0}: true}
-	for grown := true; grown; {
-		grown = false
-		for s := range seen {
-			i := f.Code[s.pc]
-			r := rules()[i.Op]
-			if i.Op == api.Call {
-				r.pops = p.Funcs[i.A].Params
+	all := rules()
+	for todo := []state{{0, 0}}; len(todo) > 0; {
+		s := todo[0]
+		todo = todo[1:]
+		i := f.Code[s.pc]
+		r := all[i.Op]
+		if i.Op == api.Call {
+			r.pops = p.Funcs[i.A].Params
+		}
+		behind := s.height - r.pops + r.pushes
+		if s.height < r.pops || behind > api.MaxHeight {
+			return nil, false
+		}
+		var next []int
+		if i.Op == api.Jump || i.Op == api.JumpNot {
+			next = append(next, i.A)
+		}
+		if r.goesOn() || i.Op == api.JumpNot {
+			next = append(next, s.pc+1)
+		}
+		for _, pc := range next {
+			if pc == len(f.Code) {
+				return nil, false
 			}
-			behind := s.height - r.pops + r.pushes
-			if s.height < r.pops || behind > api.MaxHeight {
-				return false
-			}
-			var next []int
-			if i.Op == api.Jump || i.Op == api.JumpNot {
-				next = append(next, i.A)
-			}
-			if r.goesOn() || i.Op == api.JumpNot {
-				next = append(next, s.pc+1)
-			}
-			for _, pc := range next {
-				if pc == len(f.Code) {
-					return false
-				}
-				if to := (state{pc, behind}); !seen[to] {
-					seen[to], grown = true, true
-				}
-			}
-			if grown {
-				break
+			if to := (state{pc, behind}); !seen[to] {
+				seen[to] = true
+				todo = append(todo, to)
 			}
 		}
 	}
-	count := map[int]int{}
+	heights := map[int]int{}
 	for s := range seen {
-		count[s.pc]++
-		if count[s.pc] > 1 {
-			return false
+		if _, ok := heights[s.pc]; ok {
+			return nil, false
 		}
+		heights[s.pc] = s.height
 	}
-	return true
+	return heights, true
 }
 
 // choices are instructions of each shape that a function of n instructions may have.

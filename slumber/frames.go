@@ -55,15 +55,16 @@ func (s *frames) leave(v api.Value) {
 
 func (s *frames) leaveAll() { s.called = nil }
 
-// values are all values of the frames, the first frame first, in each the locals and then the stack.
-func (s *frames) values() []api.Value {
-	var l []api.Value
+// ofFrames are the lists of values of the frames, the first frame first, in each the locals and then the stack.
+func (s *frames) ofFrames() [][]api.Value {
+	var l [][]api.Value
 	for _, f := range s.called {
-		l = append(l, f.Locals...)
-		l = append(l, f.Stack...)
+		l = append(l, f.Locals, f.Stack)
 	}
 	return l
 }
+
+func (s *frames) values() []api.Value { return slices.Concat(s.ofFrames()...) }
 
 func (s *frames) copyFrames() []api.Frame {
 	l := slices.Clone(s.called)

@@ -111,6 +111,15 @@ func (h *heap) forgetFreed() {
 	}
 }
 
+// ofObjects are the lists of values of the slots, one for each.
+func (h *heap) ofObjects() [][]api.Value {
+	var l [][]api.Value
+	for _, o := range h.slots {
+		l = append(l, o.Fields)
+	}
+	return l
+}
+
 func (h *heap) copySlots() []api.Object {
 	l := slices.Clone(h.slots)
 	for i := range l {

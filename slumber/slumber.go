@@ -46,7 +46,9 @@ func (m *Machine) Draw(l []int) api.Errno { return m.addDraws(l) }
 func (m *Machine) Collect() int { return m.collect() }
 
 // Save tells the machine as bytes (P13).
-func (m *Machine) Save() []byte { return nil }
+func (m *Machine) Save() []byte { return m.save() }
 
 // Wake makes a machine of bytes (P14).
-func Wake(image []byte, capacity int, draws []int) (*Machine, api.Errno) { return nil, api.OK }
+func Wake(image []byte, capacity int, draws []int) (*Machine, api.Errno) {
+	return wake(image, capacity, draws)
+}
